@@ -11,7 +11,7 @@ func Check(frame string) api.Errno {
 	if err != api.OK {
 		return err
 	}
-	switch protocol(frame) {
+	switch Protocol(frame) {
 	case api.UDP:
 		return checkUDP(frame)
 	case api.TCP:
@@ -32,7 +32,7 @@ func checkHeader(frame string) api.Errno {
 	if octets.Word(frame, partPlace)&(moreParts|partDistance) != 0 {
 		return api.ErrPart
 	}
-	if !Usable(source(frame)) || !Usable(destination(frame)) {
+	if !Usable(SourceAddress(frame)) || !Usable(DestinationAddress(frame)) {
 		return api.ErrAddress
 	}
 	return api.OK
@@ -43,7 +43,7 @@ func headerFits(frame string) bool {
 		return false
 	}
 	header := headerLength(frame)
-	total := totalLength(frame)
+	total := TotalLength(frame)
 	return header >= minHeader && header <= total && total <= len(frame)
 }
 
@@ -86,12 +86,12 @@ func checkICMP(frame string) api.Errno {
 	if octets.Word(text, icmpSumPlace) != icmpSum(frame) {
 		return api.ErrSum
 	}
-	kind := octets.Byte(text, 0)
-	if isErrorMessage(kind) {
+	kind := icmpType(frame)
+	if isErrorType(kind) {
 		return checkQuote(octets.Part(text, quotePlace, len(text)))
 	}
 	code := octets.Byte(text, 1)
-	if code != 0 || !isRequest(kind) && !isReply(kind) {
+	if code != 0 || !isRequestType(kind) && !isReplyType(kind) {
 		return api.ErrKind
 	}
 	if (kind == timestamp || kind == timestampReply) && len(text) < minTimestamp {
@@ -109,12 +109,12 @@ func checkQuote(quote string) api.Errno {
 	if octets.Word(quote, partPlace)&partDistance != 0 {
 		return api.ErrPart
 	}
-	switch protocol(quote) {
+	switch Protocol(quote) {
 	case api.UDP, api.TCP:
 		return api.OK
 	case api.ICMP:
-		kind := octets.Byte(quote, header)
-		if isRequest(kind) || isReply(kind) {
+		kind := icmpType(quote)
+		if isRequestType(kind) || isReplyType(kind) {
 			return api.OK
 		}
 	}

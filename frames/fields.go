@@ -1,7 +1,10 @@
-// Package frames: what stands where in a frame, and what is wrong with one.
+// Package frames: what stands where in a frame, what is wrong with one, and how one is rewritten.
 package frames
 
-import "natbox/octets"
+import (
+	"natbox/api"
+	"natbox/octets"
+)
 
 // Places in a header, and the bits in it that are looked at.
 const (
@@ -9,6 +12,7 @@ const (
 
 	totalPlace       = 2
 	partPlace        = 6
+	ttlPlace         = 8
 	protocolPlace    = 9
 	headerSumPlace   = 10
 	sourcePlace      = 12
@@ -20,6 +24,9 @@ const (
 
 // Places in bodies, and how short these may be.
 const (
+	sourcePortPlace      = 0
+	destinationPortPlace = 2
+
 	minUDP         = 8
 	udpLengthPlace = 4
 	udpSumPlace    = 6
@@ -31,6 +38,7 @@ const (
 	minICMP      = 8
 	minTimestamp = 20
 	icmpSumPlace = 2
+	queryPlace   = 4
 	quotePlace   = 8
 	minQuoted    = 8
 )
@@ -60,35 +68,63 @@ func headerLength(frame string) int {
 	return (octets.Byte(frame, 0) & 15) * 4
 }
 
-func totalLength(frame string) int {
+// TotalLength is the frame's length without its tail.
+func TotalLength(frame string) int {
 	return octets.Word(frame, totalPlace)
 }
 
-func protocol(frame string) int {
+// TTL tells how far the frame may still go.
+func TTL(frame string) int {
+	return octets.Byte(frame, ttlPlace)
+}
+
+// Protocol is ICMP, TCP or UDP, if Check finds nothing wrong.
+func Protocol(frame string) int {
 	return octets.Byte(frame, protocolPlace)
 }
 
-func source(frame string) int {
+// SourceAddress is the address that the frame comes from.
+func SourceAddress(frame string) int {
 	return octets.Long(frame, sourcePlace)
 }
 
-func destination(frame string) int {
+// DestinationAddress is the address that the frame goes to.
+func DestinationAddress(frame string) int {
 	return octets.Long(frame, destinationPlace)
 }
 
 // body leaves out the tail.
 func body(frame string) string {
-	return octets.Part(frame, headerLength(frame), totalLength(frame))
+	return octets.Part(frame, headerLength(frame), TotalLength(frame))
 }
 
-func isRequest(kind int) bool {
+// IsRequest tells whether a frame is a query that asks.
+func IsRequest(frame string) bool {
+	return Protocol(frame) == api.ICMP && isRequestType(icmpType(frame))
+}
+
+// IsReply tells whether a frame is a query that answers.
+func IsReply(frame string) bool {
+	return Protocol(frame) == api.ICMP && isReplyType(icmpType(frame))
+}
+
+// IsErrorMessage tells whether a frame tells of another frame's fate.
+func IsErrorMessage(frame string) bool {
+	return Protocol(frame) == api.ICMP && isErrorType(icmpType(frame))
+}
+
+func icmpType(frame string) int {
+	return octets.Byte(frame, headerLength(frame))
+}
+
+func isRequestType(kind int) bool {
 	return kind == echo || kind == timestamp
 }
 
-func isReply(kind int) bool {
+func isReplyType(kind int) bool {
 	return kind == echoReply || kind == timestampReply
 }
 
-func isErrorMessage(kind int) bool {
+func isErrorType(kind int) bool {
 	return kind == unreachable || kind == timeExceeded || kind == parameterProblem
 }

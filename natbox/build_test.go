@@ -9,8 +9,12 @@ import (
 )
 
 const (
-	hostIn  = 0x0a000005 // 10.0.0.5
-	hostOut = 0xc6336407 // 198.51.100.7
+	hostIn   = 0x0a000005 // 10.0.0.5
+	otherIn  = 0x0a000006
+	boxIn    = 0x0a000001
+	boxOut   = 0xcb007109 // 203.0.113.9
+	hostOut  = 0xc6336407 // 198.51.100.7
+	otherOut = 0xc0000201 // 192.0.2.1
 )
 
 // unhex: bytes that are written down, blanks between them for the eye.
@@ -110,9 +114,27 @@ func message(kind, code int, quote string) string {
 	return icmp(kind, code, "\x00\x00\x00\x00"+quote)
 }
 
+// udpOf, tcpOf and queryOf: frames with a TTL from one end to another.
+func udpOf(src, sport, dst, dport, ttl int, text string) string {
+	return frame(src, dst, ttl, api.UDP, "", udpBody(src, sport, dst, dport, text, ""))
+}
+
+func tcpOf(src, sport, dst, dport, ttl int, text string) string {
+	return frame(src, dst, ttl, api.TCP, "", tcpBody(src, sport, dst, dport, 5, text))
+}
+
+func queryOf(kind, src, dst, id, ttl int, text string) string {
+	return frame(src, dst, ttl, api.ICMP, "", icmpBody(kind, 0, word(id)+"\x00\x01"+text))
+}
+
+// messageOf: an error message that tells that the quoted frame found no host.
+func messageOf(src, dst, ttl int, quote string) string {
+	return frame(src, dst, ttl, api.ICMP, "", icmpBody(3, 1, "\x00\x00\x00\x00"+quote))
+}
+
 // good: the document's box.
 func good() api.Config {
-	return api.Config{InAddr: 0x0a000001, OutAddr: 0xcb007109, Low: 40000, High: 40009, Capacity: 2, InMTU: 1500, OutMTU: 1500, UDPIdle: 30, TCPIdle: 60, QueryIdle: 10, Burst: 2, Rate: 1}
+	return api.Config{InAddr: boxIn, OutAddr: boxOut, Low: 40000, High: 40009, Capacity: 2, InMTU: 1500, OutMTU: 1500, UDPIdle: 30, TCPIdle: 60, QueryIdle: 10, Burst: 2, Rate: 1}
 }
 
 // dice: numbers that look thrown and are the same in each run.

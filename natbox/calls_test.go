@@ -9,9 +9,11 @@ import (
 	"natbox/natbox"
 )
 
-// samples: a frame of each kind.
+// samples: a frame of each kind from the inside, and answers from the outside.
 func samples() []string {
 	return []string{
+		udpOf(hostOut, 53, boxOut, 40000, 64, "answer"), tcpOf(hostOut, 80, boxOut, 40000, 64, "answer"), queryOf(0, hostOut, boxOut, 40000, 64, "answer"),
+		messageOf(otherOut, boxOut, 64, udpOf(boxOut, 40000, hostOut, 53, 63, "abcd")), udpOf(hostIn, 5000, boxOut, 40000, 64, "abcd"),
 		udp("abcd"), tcp("hello"), icmp(8, 0, "\x00\x4d\x00\x01ping"), icmp(13, 0, strings.Repeat("s", 16)),
 		message(3, 1, udp("abcd")), message(11, 0, tcp("hello")), message(12, 0, icmp(8, 0, "\x00\x4d\x00\x01")),
 		frame(hostIn, hostOut, 64, api.UDP, strings.Repeat("\x01", 40), udpBody(hostIn, 1, hostOut, 2, "x", "fill")) + "tail",
@@ -28,43 +30,51 @@ func sealed(f string) string {
 	return sealHeader(f)
 }
 
-// enters calls all that takes a string; a panic ends the test.
-func enters(x *natbox.Box, s string) {
+// enters calls all that takes a string; a panic ends the test. What comes out is a frame, however odd what came in.
+func enters(t *testing.T, x *natbox.Box, s string) {
+	t.Helper()
 	natbox.Sum(s)
-	natbox.Check(s)
-	x.Frame(api.Inside, s)
-	x.Frame(api.Outside, s)
+	e := natbox.Check(s)
+	for side := range 2 {
+		r := x.Frame(side, s)
+		if e != api.OK && r != (api.Reply{Err: e}) {
+			t.Fatalf("Check(%.80q) = %d, Frame = %v", s, e, r)
+		}
+		if r.Frame != "" && natbox.Check(r.Frame) != api.OK {
+			t.Fatalf("Frame(%d, %.80q): out comes %.80q, which is no frame", side, s, r.Frame)
+		}
+	}
 }
 
 func TestP1EveryString(t *testing.T) {
-	x, _ := natbox.New(good())
+	x := mapped(t, roomy(api.MaxCapacity))
 	d := dice{3}
 	for n := range 200 {
-		enters(x, d.text(n))
-		enters(x, strings.Repeat("\x45", n))
+		enters(t, x, d.text(n))
+		enters(t, x, strings.Repeat("\x45", n))
 	}
 	for _, n := range []int{api.MaxFrame - 1, api.MaxFrame, api.MaxFrame + 1, 1 << 23} {
-		enters(x, strings.Repeat("\x00", n))
-		enters(x, udp("abcd")+strings.Repeat("\xff", n-32))
+		enters(t, x, strings.Repeat("\x00", n))
+		enters(t, x, udp("abcd")+strings.Repeat("\xff", n-32))
 	}
 }
 
 func TestP1EveryFrameCutOrBent(t *testing.T) {
-	x, _ := natbox.New(good())
+	x := mapped(t, roomy(api.MaxCapacity))
 	for _, f := range samples() {
 		if e := natbox.Check(f); e != api.OK {
 			t.Errorf("Check(%q) = %d", f, e)
 		}
 		for n := range len(f) {
-			enters(x, f[:n])
+			enters(t, x, f[:n])
 			if n >= 20 {
-				enters(x, sealHeader(with(f[:n], 2, word(n))))
-				enters(x, sealed(with(f[:n], 2, word(n))))
+				enters(t, x, sealHeader(with(f[:n], 2, word(n))))
+				enters(t, x, sealed(with(f[:n], 2, word(n))))
 			}
 			for b := range 256 {
 				g := with(f, n, string([]byte{byte(b)}))
-				enters(x, g)
-				enters(x, sealed(g))
+				enters(t, x, g)
+				enters(t, x, sealed(g))
 			}
 		}
 	}
@@ -72,7 +82,7 @@ func TestP1EveryFrameCutOrBent(t *testing.T) {
 
 func TestP1EveryNumber(t *testing.T) {
 	numbers := []int{math.MinInt, math.MinInt + 1, -1 << 32, -65536, -1, 0, 1, 65535, 65536, 1 << 31, 1 << 32, 1 << 40, math.MaxInt - 1, math.MaxInt}
-	x, _ := natbox.New(good())
+	x := mapped(t, roomy(api.MaxCapacity))
 	for _, a := range numbers {
 		for _, b := range numbers {
 			for _, c := range numbers {
@@ -81,8 +91,8 @@ func TestP1EveryNumber(t *testing.T) {
 			}
 		}
 		x.Frame(a, udp("abcd"))
-		x.Tick(a)
 		x.Mapping(a)
+		x.Tick(a)
 	}
 }
 

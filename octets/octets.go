@@ -40,3 +40,19 @@ func PutWord(s string, i int, n int) string {
 	}
 	return s[:i] + FromWord(n) + s[i+2:]
 }
+
+// PutLong is the text with the number n, of which the lowest 32 bits count, in the four bytes from place i on, unchanged where it has no such bytes.
+func PutLong(s string, i int, n int) string {
+	if i < 0 || i > len(s)-4 {
+		return s
+	}
+	return s[:i] + FromWord(n>>16) + FromWord(n) + s[i+4:]
+}
+
+// PutByte is the text with the number n, of which the lowest 8 bits count, in the byte at place i, unchanged where it has no such byte.
+func PutByte(s string, i int, n int) string {
+	if i < 0 || i >= len(s) {
+		return s
+	}
+	return s[:i] + string([]byte{byte(n)}) + s[i+1:]
+}

@@ -50,3 +50,33 @@ func TestPutWord(t *testing.T) {
 		}
 	}
 }
+
+func TestPutLong(t *testing.T) {
+	for _, c := range []struct {
+		s    string
+		i, n int
+		want string
+	}{
+		{"abcdef", 0, 0x01020304, "\x01\x02\x03\x04ef"}, {"abcdef", 2, 0xfffefdfc, "ab\xff\xfe\xfd\xfc"}, {"abcdef", 1, 0, "a\x00\x00\x00\x00f"}, {"abcd", 0, 0x501020304, "\x01\x02\x03\x04"},
+		{"abcd", 1, 1, "abcd"}, {"abcd", -1, 1, "abcd"}, {"abc", 0, 1, "abc"}, {"", 0, 1, ""}, {"abcd", math.MaxInt, 1, "abcd"}, {"abcd", math.MinInt, 1, "abcd"},
+	} {
+		if s := PutLong(c.s, c.i, c.n); s != c.want {
+			t.Errorf("PutLong(%q, %d, %#x) = %q, want %q", c.s, c.i, c.n, s, c.want)
+		}
+	}
+}
+
+func TestPutByte(t *testing.T) {
+	for _, c := range []struct {
+		s    string
+		i, n int
+		want string
+	}{
+		{"abc", 0, 1, "\x01bc"}, {"abc", 2, 0xff, "ab\xff"}, {"abc", 1, 0x1f0, "a\xf0c"},
+		{"abc", 3, 1, "abc"}, {"abc", -1, 1, "abc"}, {"", 0, 1, ""}, {"abc", math.MaxInt, 1, "abc"}, {"abc", math.MinInt, 1, "abc"},
+	} {
+		if s := PutByte(c.s, c.i, c.n); s != c.want {
+			t.Errorf("PutByte(%q, %d, %#x) = %q, want %q", c.s, c.i, c.n, s, c.want)
+		}
+	}
+}

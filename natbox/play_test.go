@@ -1,0 +1,91 @@
+package natbox_test
+
+import (
+	"testing"
+
+	"natbox/api"
+	"natbox/natbox"
+)
+
+// roomy: the document's box with more room.
+func roomy(capacity int) api.Config {
+	c := good()
+	c.Capacity = capacity
+	return c
+}
+
+// silent: a box without tokens, so that it has no messages of its own.
+func silent(c api.Config) api.Config {
+	c.Burst = 0
+	return c
+}
+
+func made(t *testing.T, c api.Config) *natbox.Box {
+	t.Helper()
+	x, e := natbox.New(c)
+	if x == nil || e != api.OK {
+		t.Fatalf("New(%v) = %v, %d", c, x, e)
+	}
+	return x
+}
+
+// carries: the frame comes out on the other side as it must.
+func carries(t *testing.T, why string, x *natbox.Box, side int, f, want string) {
+	t.Helper()
+	r := x.Frame(side, f)
+	if r != (api.Reply{Err: api.OK, Side: 1 - side, Frame: want}) {
+		t.Fatalf("%s: Frame(%d, %x) = %d, %d, %x, want 0, %d, %x", why, side, f, r.Err, r.Side, r.Frame, 1-side, want)
+	}
+}
+
+// refuses: the answer is an error; nothing comes out, unless it is an error of which the box may tell.
+func refuses(t *testing.T, why string, x *natbox.Box, side int, f string, want api.Errno) {
+	t.Helper()
+	r := x.Frame(side, f)
+	if r.Err != want {
+		t.Fatalf("%s: Frame(%d, %x) = %d, want %d", why, side, f, r.Err, want)
+	}
+	tells := want == api.ErrTTL || want == api.ErrBig || want == api.ErrFull
+	if r.Frame != "" && (!tells || x.Tokens() == 0) || r.Side != 0 && r.Frame == "" {
+		t.Fatalf("%s: Frame(%d, %x) = %d, and on side %d comes out %x", why, side, f, r.Err, r.Side, r.Frame)
+	}
+}
+
+func ticks(t *testing.T, x *natbox.Box, n int) {
+	t.Helper()
+	if e := x.Tick(n); e != api.OK {
+		t.Fatalf("Tick(%d) = %d", n, e)
+	}
+}
+
+// list: all live mappings.
+func list(t *testing.T, x *natbox.Box) []api.Mapping {
+	t.Helper()
+	l := []api.Mapping{}
+	for i := range x.Live() {
+		m, e := x.Mapping(i)
+		if e != api.OK {
+			t.Fatalf("Mapping(%d) of %d: error %d", i, x.Live(), e)
+		}
+		l = append(l, m)
+	}
+	return l
+}
+
+// lists: the live mappings are these, and no others are told.
+func lists(t *testing.T, why string, x *natbox.Box, want ...api.Mapping) {
+	t.Helper()
+	got := list(t, x)
+	same := len(got) == len(want)
+	for i := 0; same && i < len(want); i++ {
+		same = got[i] == want[i]
+	}
+	if !same {
+		t.Fatalf("%s: mappings %v, want %v", why, got, want)
+	}
+	for _, i := range []int{-1, len(want), len(want) + 1, api.MaxCapacity, -1 << 63, 1<<63 - 1} {
+		if m, e := x.Mapping(i); m != (api.Mapping{}) || e != api.ErrIndex {
+			t.Fatalf("%s: Mapping(%d) = %v, %d", why, i, m, e)
+		}
+	}
+}
