@@ -1,4 +1,4 @@
-// Package frames: what stands where in a frame, what is wrong with one, and how one is rewritten.
+// Package frames: what stands where in a frame, what is wrong with one, how one is rewritten, and how the box tells of one.
 package frames
 
 import (
@@ -18,6 +18,7 @@ const (
 	sourcePlace      = 12
 	destinationPlace = 16
 
+	dontCut      = 0x4000
 	moreParts    = 0x2000
 	partDistance = 0x1fff
 )
@@ -71,6 +72,11 @@ func headerLength(frame string) int {
 // TotalLength is the frame's length without its tail.
 func TotalLength(frame string) int {
 	return octets.Word(frame, totalPlace)
+}
+
+// MayBeCut tells whether a frame that is too long may go on in parts.
+func MayBeCut(frame string) bool {
+	return octets.Word(frame, partPlace)&dontCut == 0
 }
 
 // TTL tells how far the frame may still go.

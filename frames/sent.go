@@ -6,14 +6,17 @@ import (
 )
 
 // Sent is a frame as it goes on: with one less of TTL, and with checksums that hold for all that stands in it now (P10).
-// They are made anew, as Fix cannot tell 0 from 65535.
 func Sent(frame string) string {
-	frame = octets.PutByte(frame, ttlPlace, TTL(frame)-1)
+	return sealed(octets.PutByte(frame, ttlPlace, TTL(frame)-1))
+}
+
+// sealed is the frame with checksums that hold. They are made anew, as Fix cannot tell 0 from 65535.
+func sealed(frame string) string {
 	frame = octets.PutWord(frame, headerSumPlace, headerSum(frame))
 	start := headerLength(frame)
 	switch Protocol(frame) {
 	case api.UDP:
-		return sentUDP(frame, start+udpSumPlace)
+		return sealedUDP(frame, start+udpSumPlace)
 	case api.TCP:
 		return octets.PutWord(frame, start+tcpSumPlace, tcpSum(frame))
 	case api.ICMP:
@@ -22,8 +25,8 @@ func Sent(frame string) string {
 	return frame
 }
 
-// sentUDP makes up no checksum for a frame that came without one.
-func sentUDP(frame string, field int) string {
+// sealedUDP makes up no checksum for a frame that came without one.
+func sealedUDP(frame string, field int) string {
 	if octets.Word(frame, field) == 0 {
 		return frame
 	}

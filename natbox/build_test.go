@@ -132,6 +132,19 @@ func messageOf(src, dst, ttl int, quote string) string {
 	return frame(src, dst, ttl, api.ICMP, "", icmpBody(3, 1, "\x00\x00\x00\x00"+quote))
 }
 
+// cuttable: the frame that says no more that it must not be cut.
+func cuttable(f string) string {
+	return sealHeader(with(f, 6, word(wordAt(f, 6)&^0x4000)))
+}
+
+// own: a message of the box's own, from its address src, about a frame; hint is the word ahead of the quote.
+func own(src, kind, code, hint int, f string) string {
+	quote := f[:int(f[0]&15)*4+8]
+	dst := wordAt(f, 12)<<16 | wordAt(f, 14)
+	m := frame(src, dst, 64, api.ICMP, "", icmpBody(kind, code, word(0)+word(hint)+quote))
+	return sealHeader(with(m, 4, "\x00\x00\x00\x00"))
+}
+
 // good: the document's box.
 func good() api.Config {
 	return api.Config{InAddr: boxIn, OutAddr: boxOut, Low: 40000, High: 40009, Capacity: 2, InMTU: 1500, OutMTU: 1500, UDPIdle: 30, TCPIdle: 60, QueryIdle: 10, Burst: 2, Rate: 1}

@@ -30,12 +30,27 @@ func sealed(f string) string {
 	return sealHeader(f)
 }
 
+// lasting: a box with a mapping of each protocol that stays, and with messages that do not end.
+func lasting(t *testing.T) *natbox.Box {
+	t.Helper()
+	c := roomy(api.MaxCapacity)
+	c.UDPIdle = api.MaxIdle
+	c.TCPIdle = api.MaxIdle
+	c.QueryIdle = api.MaxIdle
+	c.Burst = api.MaxBucket
+	c.Rate = api.MaxBucket
+	return mapped(t, c)
+}
+
 // enters calls all that takes a string; a panic ends the test. What comes out is a frame, however odd what came in.
 func enters(t *testing.T, x *natbox.Box, s string) {
 	t.Helper()
 	natbox.Sum(s)
 	e := natbox.Check(s)
 	for side := range 2 {
+		if x.Tokens() == 0 {
+			ticks(t, x, 1)
+		}
 		r := x.Frame(side, s)
 		if e != api.OK && r != (api.Reply{Err: e}) {
 			t.Fatalf("Check(%.80q) = %d, Frame = %v", s, e, r)
@@ -47,7 +62,7 @@ func enters(t *testing.T, x *natbox.Box, s string) {
 }
 
 func TestP1EveryString(t *testing.T) {
-	x := mapped(t, roomy(api.MaxCapacity))
+	x := lasting(t)
 	d := dice{3}
 	for n := range 200 {
 		enters(t, x, d.text(n))
@@ -60,7 +75,7 @@ func TestP1EveryString(t *testing.T) {
 }
 
 func TestP1EveryFrameCutOrBent(t *testing.T) {
-	x := mapped(t, roomy(api.MaxCapacity))
+	x := lasting(t)
 	for _, f := range samples() {
 		if e := natbox.Check(f); e != api.OK {
 			t.Errorf("Check(%q) = %d", f, e)
@@ -82,7 +97,7 @@ func TestP1EveryFrameCutOrBent(t *testing.T) {
 
 func TestP1EveryNumber(t *testing.T) {
 	numbers := []int{math.MinInt, math.MinInt + 1, -1 << 32, -65536, -1, 0, 1, 65535, 65536, 1 << 31, 1 << 32, 1 << 40, math.MaxInt - 1, math.MaxInt}
-	x := mapped(t, roomy(api.MaxCapacity))
+	x := lasting(t)
 	for _, a := range numbers {
 		for _, b := range numbers {
 			for _, c := range numbers {

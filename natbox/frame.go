@@ -55,14 +55,14 @@ func (x *Box) outward(frame string) api.Reply {
 	}
 	err := passes(frame, x.config.OutMTU)
 	if err != api.OK {
-		return api.Reply{Err: err}
+		return x.refusal(err, api.Inside, frame, x.config.OutMTU)
 	}
 	protocol := frames.Protocol(frame)
 	endpoint := frames.Source(frame)
 	peer := frames.Peer(frame)
 	external, err := x.table.Use(protocol, endpoint, peer, x.idle(protocol))
 	if err != api.OK {
-		return api.Reply{Err: err}
+		return x.refusal(err, api.Inside, frame, x.config.OutMTU)
 	}
 	frame = frames.WithSource(frame, frames.End{Address: x.config.OutAddr, Port: external})
 	return api.Reply{Side: api.Outside, Frame: frames.Sent(frame)}
@@ -81,7 +81,7 @@ func (x *Box) inward(frame string) api.Reply {
 	}
 	err := passes(frame, x.config.InMTU)
 	if err != api.OK {
-		return api.Reply{Err: err}
+		return x.refusal(err, api.Outside, frame, x.config.InMTU)
 	}
 	frame = frames.WithDestination(frame, endpoint)
 	return api.Reply{Side: api.Inside, Frame: frames.Sent(frame)}

@@ -24,8 +24,9 @@ type entry struct {
 }
 
 type model struct {
-	c    api.Config
-	live map[key]*entry
+	c      api.Config
+	live   map[key]*entry
+	tokens int
 }
 
 // packet: what a frame is made from.
@@ -34,9 +35,14 @@ type packet struct {
 	src, dst          end
 	ttl               int
 	text              string
+	cut               bool
 }
 
 func (p packet) bytes() string {
+	if p.cut {
+		p.cut = false
+		return cuttable(p.bytes())
+	}
 	switch p.proto {
 	case api.UDP:
 		return udpOf(p.src.addr, p.src.port, p.dst.addr, p.dst.port, p.ttl, p.text)
@@ -89,16 +95,43 @@ func (m *model) early(p packet) api.Errno {
 	return api.OK
 }
 
+func (p packet) peer() end {
+	if p.proto == api.ICMP {
+		return end{p.dst.addr, 0}
+	}
+	return p.dst
+}
+
+func (m *model) isFull(p packet) bool {
+	e := m.live[key{p.proto, p.src}]
+	if e == nil {
+		return len(m.live) == m.c.Capacity || m.free(p.proto, p.src.port) == 0
+	}
+	return !e.peers[p.peer()] && len(e.peers) == api.MaxPeers
+}
+
+// refuse: the answer with a message of the box's own, as long as there are tokens.
+func (m *model) refuse(p packet, e api.Errno, kind, code, hint int) api.Reply {
+	if m.tokens == 0 || e == api.ErrBig && p.cut {
+		return api.Reply{Err: e}
+	}
+	m.tokens--
+	return api.Reply{Err: e, Side: p.side, Frame: own([]int{boxIn, boxOut}[p.side], kind, code, hint, p.bytes())}
+}
+
 func (m *model) play(p packet) api.Reply {
 	if e := m.early(p); e != api.OK {
 		return api.Reply{Err: e}
 	}
 	mtu := []int{m.c.OutMTU, m.c.InMTU}[p.side]
 	if p.ttl < 2 {
-		return api.Reply{Err: api.ErrTTL}
+		return m.refuse(p, api.ErrTTL, 11, 0, 0)
 	}
 	if len(p.bytes()) > mtu {
-		return api.Reply{Err: api.ErrBig}
+		return m.refuse(p, api.ErrBig, 3, 4, mtu)
+	}
+	if p.side == api.Inside && m.isFull(p) {
+		return m.refuse(p, api.ErrFull, 3, 3, 0)
 	}
 	p.ttl--
 	if p.side == api.Outside {
@@ -108,23 +141,12 @@ func (m *model) play(p packet) api.Reply {
 		return api.Reply{Side: api.Inside, Frame: p.bytes()}
 	}
 	k := key{p.proto, p.src}
-	peer := p.dst
-	if p.proto == api.ICMP {
-		peer.port = 0
-	}
 	e := m.live[k]
 	if e == nil {
-		external := m.free(p.proto, p.src.port)
-		if len(m.live) == m.c.Capacity || external == 0 {
-			return api.Reply{Err: api.ErrFull}
-		}
-		e = &entry{external: external, peers: map[end]bool{}}
+		e = &entry{external: m.free(p.proto, p.src.port), peers: map[end]bool{}}
 		m.live[k] = e
 	}
-	if !e.peers[peer] && len(e.peers) == api.MaxPeers {
-		return api.Reply{Err: api.ErrFull}
-	}
-	e.peers[peer] = true
+	e.peers[p.peer()] = true
 	e.left = map[int]int{api.UDP: m.c.UDPIdle, api.TCP: m.c.TCPIdle, api.ICMP: m.c.QueryIdle}[p.proto]
 	p.src = end{boxOut, e.external}
 	return api.Reply{Side: api.Outside, Frame: p.bytes()}
@@ -137,6 +159,7 @@ func (m *model) tick() {
 			delete(m.live, k)
 		}
 	}
+	m.tokens = min(m.tokens+m.c.Rate, m.c.Burst)
 }
 
 func (m *model) list() []api.Mapping {
@@ -150,9 +173,9 @@ func (m *model) list() []api.Mapping {
 	return l
 }
 
-// config: a configuration so narrow that everything happens soon; no tokens.
+// config: a configuration so narrow that everything happens soon.
 func (d *dice) config() api.Config {
-	c := silent(good())
+	c := good()
 	c.Low = 5000 + d.below(4)
 	c.High = c.Low + d.below(8)
 	c.Capacity = 1 + d.below(12)
@@ -161,6 +184,8 @@ func (d *dice) config() api.Config {
 	c.UDPIdle = 1 + d.below(12)
 	c.TCPIdle = 1 + d.below(12)
 	c.QueryIdle = 1 + d.below(12)
+	c.Burst = d.below(4)
+	c.Rate = d.below(3)
 	return c
 }
 
@@ -179,6 +204,7 @@ func (d *dice) packet() packet {
 		p.ttl = d.below(4)
 	case 2:
 		p.text = strings.Repeat("x", 50+d.below(30))
+		p.cut = d.below(3) == 0
 	case 3:
 		p.src.addr = []int{boxIn, boxOut}[d.below(2)]
 	case 4:
@@ -193,13 +219,14 @@ func (d *dice) packet() packet {
 	return p
 }
 
-func TestP8ToP11AsTheSecondBox(t *testing.T) {
+func TestP8ToP13AsTheSecondBox(t *testing.T) {
 	d := &dice{23}
 	seen := map[api.Errno]int{}
+	told := map[api.Errno]int{}
 	for range 300 {
 		c := d.config()
 		x := made(t, c)
-		m := &model{c: c, live: map[key]*entry{}}
+		m := &model{c: c, live: map[key]*entry{}, tokens: c.Burst}
 		for range 150 {
 			if d.below(6) == 0 {
 				n := d.below(4)
@@ -215,12 +242,21 @@ func TestP8ToP11AsTheSecondBox(t *testing.T) {
 				t.Fatalf("%+v with %+v: %d, %d, %x, want %d, %d, %x", p, c, got.Err, got.Side, got.Frame, want.Err, want.Side, want.Frame)
 			}
 			seen[got.Err]++
+			if got.Frame != "" {
+				told[got.Err]++
+			}
 			lists(t, "the second box's mappings", x, m.list()...)
+			hasTokens(t, "the second box's tokens", x, m.tokens)
 		}
 	}
 	for _, e := range []api.Errno{api.OK, api.ErrAddress, api.ErrKind, api.ErrNone, api.ErrTTL, api.ErrBig, api.ErrFull} {
 		if seen[e] < 100 {
 			t.Errorf("only %d answers were %d", seen[e], e)
+		}
+	}
+	for _, e := range []api.Errno{api.ErrTTL, api.ErrBig, api.ErrFull} {
+		if told[e] < 50 || seen[e]-told[e] < 50 {
+			t.Errorf("of %d answers %d only %d came with a message", seen[e], e, told[e])
 		}
 	}
 }
@@ -270,8 +306,8 @@ func TestP2WhatIsRefusedChangesNothing(t *testing.T) {
 			}
 			d.call().on(other)
 			lists(t, "without the refused calls", a, list(t, b)...)
-			if a.Tokens() != b.Tokens() {
-				t.Fatalf("%d tokens, and without the refused calls %d", a.Tokens(), b.Tokens())
+			if c.Burst == 0 {
+				hasTokens(t, "without the refused calls", a, b.Tokens())
 			}
 		}
 	}

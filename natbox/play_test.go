@@ -38,16 +38,54 @@ func carries(t *testing.T, why string, x *natbox.Box, side int, f, want string) 
 	}
 }
 
-// refuses: the answer is an error; nothing comes out, unless it is an error of which the box may tell.
+// refuses: the answer is an error; nothing comes out, unless it is an error of which the box may tell, and then it takes a token.
 func refuses(t *testing.T, why string, x *natbox.Box, side int, f string, want api.Errno) {
 	t.Helper()
+	tokens := x.Tokens()
 	r := x.Frame(side, f)
 	if r.Err != want {
 		t.Fatalf("%s: Frame(%d, %x) = %d, want %d", why, side, f, r.Err, want)
 	}
 	tells := want == api.ErrTTL || want == api.ErrBig || want == api.ErrFull
-	if r.Frame != "" && (!tells || x.Tokens() == 0) || r.Side != 0 && r.Frame == "" {
+	if r.Frame != "" && (!tells || tokens == 0 || r.Side != side) || r.Frame == "" && r.Side != 0 {
 		t.Fatalf("%s: Frame(%d, %x) = %d, and on side %d comes out %x", why, side, f, r.Err, r.Side, r.Frame)
+	}
+	if r.Frame != "" {
+		tokens--
+	}
+	hasTokens(t, why, x, tokens)
+}
+
+// tells: the answer is an error, on the frame's own side comes out a message, and it takes a token.
+func tells(t *testing.T, why string, x *natbox.Box, side int, f string, err api.Errno, want string) {
+	t.Helper()
+	tokens := x.Tokens()
+	mappings := list(t, x)
+	r := x.Frame(side, f)
+	if r != (api.Reply{Err: err, Side: side, Frame: want}) {
+		t.Fatalf("%s: Frame(%d, %x) = %d, %d, %x, want %d, %d, %x", why, side, f, r.Err, r.Side, r.Frame, err, side, want)
+	}
+	hasTokens(t, why, x, tokens-1)
+	lists(t, why, x, mappings...)
+}
+
+// keepsStill: the answer is an error, nothing comes out, and nothing has changed.
+func keepsStill(t *testing.T, why string, x *natbox.Box, side int, f string, err api.Errno) {
+	t.Helper()
+	tokens := x.Tokens()
+	mappings := list(t, x)
+	r := x.Frame(side, f)
+	if r != (api.Reply{Err: err}) {
+		t.Fatalf("%s: Frame(%d, %x) = %d, %d, %x, want %d and nothing", why, side, f, r.Err, r.Side, r.Frame, err)
+	}
+	hasTokens(t, why, x, tokens)
+	lists(t, why, x, mappings...)
+}
+
+func hasTokens(t *testing.T, why string, x *natbox.Box, want int) {
+	t.Helper()
+	if x.Tokens() != want {
+		t.Fatalf("%s: %d tokens, want %d", why, x.Tokens(), want)
 	}
 }
 

@@ -33,6 +33,11 @@ func FromWord(n int) string {
 	return string([]byte{byte(n >> 8), byte(n)})
 }
 
+// FromLong is the number n, of which the lowest 32 bits count, as four bytes.
+func FromLong(n int) string {
+	return FromWord(n>>16) + FromWord(n)
+}
+
 // PutWord is the text with the number n in the two bytes from place i on, unchanged where it has no such bytes.
 func PutWord(s string, i int, n int) string {
 	if i < 0 || i > len(s)-2 {
@@ -46,7 +51,7 @@ func PutLong(s string, i int, n int) string {
 	if i < 0 || i > len(s)-4 {
 		return s
 	}
-	return s[:i] + FromWord(n>>16) + FromWord(n) + s[i+4:]
+	return s[:i] + FromLong(n) + s[i+4:]
 }
 
 // PutByte is the text with the number n, of which the lowest 8 bits count, in the byte at place i, unchanged where it has no such byte.

@@ -36,6 +36,23 @@ func TestPart(t *testing.T) {
 	}
 }
 
+func TestFrom(t *testing.T) {
+	for _, c := range []struct {
+		n         int
+		two, four string
+	}{
+		{0, "\x00\x00", "\x00\x00\x00\x00"}, {0x01020304, "\x03\x04", "\x01\x02\x03\x04"}, {0xfffefdfc, "\xfd\xfc", "\xff\xfe\xfd\xfc"},
+		{0x501020304, "\x03\x04", "\x01\x02\x03\x04"}, {-1, "\xff\xff", "\xff\xff\xff\xff"},
+	} {
+		if s := FromWord(c.n); s != c.two {
+			t.Errorf("FromWord(%#x) = %q, want %q", c.n, s, c.two)
+		}
+		if s := FromLong(c.n); s != c.four {
+			t.Errorf("FromLong(%#x) = %q, want %q", c.n, s, c.four)
+		}
+	}
+}
+
 func TestPutWord(t *testing.T) {
 	for _, c := range []struct {
 		s    string
