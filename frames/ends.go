@@ -30,14 +30,24 @@ func Peer(frame string) End {
 
 // WithSource is the frame with another source. Its checksums are left to Sent.
 func WithSource(frame string, end End) string {
-	frame = octets.PutLong(frame, sourcePlace, end.Address)
+	frame = WithSourceAddress(frame, end.Address)
 	return octets.PutWord(frame, portPlace(frame, sourcePortPlace), end.Port)
 }
 
 // WithDestination is the frame with another destination. Its checksums are left to Sent.
 func WithDestination(frame string, end End) string {
-	frame = octets.PutLong(frame, destinationPlace, end.Address)
+	frame = WithDestinationAddress(frame, end.Address)
 	return octets.PutWord(frame, portPlace(frame, destinationPortPlace), end.Port)
+}
+
+// WithSourceAddress is for error messages, which have no ports.
+func WithSourceAddress(frame string, address int) string {
+	return octets.PutLong(frame, sourcePlace, address)
+}
+
+// WithDestinationAddress is for error messages, which have no ports.
+func WithDestinationAddress(frame string, address int) string {
+	return octets.PutLong(frame, destinationPlace, address)
 }
 
 // portPlace is where a port stands, which in a body with ports of its own has the given place.

@@ -1,4 +1,4 @@
-// Package frames: what stands where in a frame, what is wrong with one, how one is rewritten, and how the box tells of one.
+// Package frames: what stands where in a frame, what is wrong with one, how one and what it quotes are rewritten, and how the box tells of one.
 package frames
 
 import (

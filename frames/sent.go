@@ -13,14 +13,14 @@ func Sent(frame string) string {
 // sealed is the frame with checksums that hold. They are made anew, as Fix cannot tell 0 from 65535.
 func sealed(frame string) string {
 	frame = octets.PutWord(frame, headerSumPlace, headerSum(frame))
-	start := headerLength(frame)
+	field := sumPlace(frame)
 	switch Protocol(frame) {
 	case api.UDP:
-		return sealedUDP(frame, start+udpSumPlace)
+		return sealedUDP(frame, field)
 	case api.TCP:
-		return octets.PutWord(frame, start+tcpSumPlace, tcpSum(frame))
+		return octets.PutWord(frame, field, tcpSum(frame))
 	case api.ICMP:
-		return octets.PutWord(frame, start+icmpSumPlace, icmpSum(frame))
+		return octets.PutWord(frame, field, icmpSum(frame))
 	}
 	return frame
 }

@@ -6,6 +6,18 @@ import (
 	"natbox/sums"
 )
 
+// sumPlace is where the body's checksum field stands.
+func sumPlace(frame string) int {
+	start := headerLength(frame)
+	switch Protocol(frame) {
+	case api.UDP:
+		return start + udpSumPlace
+	case api.TCP:
+		return start + tcpSumPlace
+	}
+	return start + icmpSumPlace
+}
+
 // headerSum is what the header's checksum field must be.
 func headerSum(frame string) int {
 	header := octets.Part(frame, 0, headerLength(frame))

@@ -27,6 +27,24 @@ func (t *Table) Endpoint(protocol int, external int) (frames.End, bool) {
 	return t.list[i].endpoint, true
 }
 
+// Sender is the endpoint that has sent to a peer from an external port, and whether there is one.
+func (t *Table) Sender(protocol int, external int, peer frames.End) (frames.End, bool) {
+	i := t.findExternal(protocol, external)
+	if i < 0 || !t.list[i].knows(peer) {
+		return frames.End{}, false
+	}
+	return t.list[i].endpoint, true
+}
+
+// External is the external port that an endpoint has, and whether it has one.
+func (t *Table) External(protocol int, endpoint frames.End) (int, bool) {
+	i := t.findEndpoint(protocol, endpoint)
+	if i < 0 {
+		return 0, false
+	}
+	return t.list[i].external, true
+}
+
 // Use is the external port from which an endpoint sends to a peer (P8). With ErrFull nothing has changed.
 func (t *Table) Use(protocol int, endpoint frames.End, peer frames.End, idle int) (int, api.Errno) {
 	i := t.findEndpoint(protocol, endpoint)

@@ -9,11 +9,13 @@ import (
 	"natbox/natbox"
 )
 
-// samples: a frame of each kind from the inside, and answers from the outside.
+// samples: frames of each kind from the inside, answers from the outside, what goes back inside, and error messages about all of them.
 func samples() []string {
 	return []string{
 		udpOf(hostOut, 53, boxOut, 40000, 64, "answer"), tcpOf(hostOut, 80, boxOut, 40000, 64, "answer"), queryOf(0, hostOut, boxOut, 40000, 64, "answer"),
 		messageOf(otherOut, boxOut, 64, udpOf(boxOut, 40000, hostOut, 53, 63, "abcd")), udpOf(hostIn, 5000, boxOut, 40000, 64, "abcd"),
+		messageOf(hostIn, hostOut, 64, tcpOf(hostOut, 53, hostIn, 5000, 63, "")[:37]), messageOf(hostIn, boxOut, 64, tcpOf(boxOut, 40001, hostIn, 5000, 63, "")),
+		messageOf(otherOut, boxOut, 64, queryOf(8, boxOut, hostOut, 40000, 63, "")) + "tail",
 		udp("abcd"), tcp("hello"), icmp(8, 0, "\x00\x4d\x00\x01ping"), icmp(13, 0, strings.Repeat("s", 16)),
 		message(3, 1, udp("abcd")), message(11, 0, tcp("hello")), message(12, 0, icmp(8, 0, "\x00\x4d\x00\x01")),
 		frame(hostIn, hostOut, 64, api.UDP, strings.Repeat("\x01", 40), udpBody(hostIn, 1, hostOut, 2, "x", "fill")) + "tail",
@@ -30,7 +32,7 @@ func sealed(f string) string {
 	return sealHeader(f)
 }
 
-// lasting: a box with a mapping of each protocol that stays, and with messages that do not end.
+// lasting: a box with mappings of each protocol that stay, and with messages that do not end.
 func lasting(t *testing.T) *natbox.Box {
 	t.Helper()
 	c := roomy(api.MaxCapacity)
@@ -39,7 +41,7 @@ func lasting(t *testing.T) *natbox.Box {
 	c.QueryIdle = api.MaxIdle
 	c.Burst = api.MaxBucket
 	c.Rate = api.MaxBucket
-	return mapped(t, c)
+	return turned(t, c)
 }
 
 // enters calls all that takes a string; a panic ends the test. What comes out is a frame, however odd what came in.

@@ -47,35 +47,22 @@ func (x *Box) isForBox(frame string) bool {
 	return frames.DestinationAddress(frame) == x.config.OutAddr
 }
 
-// outward carries what comes from the inside (P8).
+// outward carries UDP, TCP and requests from the inside to the outside (P8).
 func (x *Box) outward(frame string) api.Reply {
-	// Neither error messages nor the way back inside are carried so far.
-	if frames.IsErrorMessage(frame) || x.isForBox(frame) {
-		return api.Reply{Err: api.ErrNone}
-	}
 	err := passes(frame, x.config.OutMTU)
 	if err != api.OK {
 		return x.refusal(err, api.Inside, frame, x.config.OutMTU)
 	}
-	protocol := frames.Protocol(frame)
-	endpoint := frames.Source(frame)
-	peer := frames.Peer(frame)
-	external, err := x.table.Use(protocol, endpoint, peer, x.idle(protocol))
+	sent, err := x.fromBox(frame)
 	if err != api.OK {
 		return x.refusal(err, api.Inside, frame, x.config.OutMTU)
 	}
-	frame = frames.WithSource(frame, frames.End{Address: x.config.OutAddr, Port: external})
-	return api.Reply{Side: api.Outside, Frame: frames.Sent(frame)}
+	return api.Reply{Side: api.Outside, Frame: frames.Sent(sent)}
 }
 
-// inward carries what comes from the outside (P9).
+// inward carries UDP, TCP and replies from the outside to the inside (P9).
 func (x *Box) inward(frame string) api.Reply {
-	// Error messages are not carried so far.
-	if frames.IsErrorMessage(frame) {
-		return api.Reply{Err: api.ErrNone}
-	}
-	asked := frames.Destination(frame)
-	endpoint, found := x.table.Endpoint(frames.Protocol(frame), asked.Port)
+	endpoint, found := x.asked(frame)
 	if !found {
 		return api.Reply{Err: api.ErrNone}
 	}
@@ -85,6 +72,42 @@ func (x *Box) inward(frame string) api.Reply {
 	}
 	frame = frames.WithDestination(frame, endpoint)
 	return api.Reply{Side: api.Inside, Frame: frames.Sent(frame)}
+}
+
+// back carries UDP and TCP from the inside to the inside, as if it had been outside in between (P14).
+func (x *Box) back(frame string) api.Reply {
+	endpoint, found := x.asked(frame)
+	if !found {
+		return api.Reply{Err: api.ErrNone}
+	}
+	err := passes(frame, x.config.InMTU)
+	if err != api.OK {
+		return x.refusal(err, api.Inside, frame, x.config.InMTU)
+	}
+	sent, err := x.fromBox(frame)
+	if err != api.OK {
+		return x.refusal(err, api.Inside, frame, x.config.InMTU)
+	}
+	sent = frames.WithDestination(sent, endpoint)
+	return api.Reply{Side: api.Inside, Frame: frames.Sent(sent)}
+}
+
+// asked is the endpoint that is meant by the port of the box's to which a frame goes, and whether there is one.
+func (x *Box) asked(frame string) (frames.End, bool) {
+	destination := frames.Destination(frame)
+	return x.table.Endpoint(frames.Protocol(frame), destination.Port)
+}
+
+// fromBox is a frame from the inside with the source that it has outside. With ErrFull nothing has changed.
+func (x *Box) fromBox(frame string) (string, api.Errno) {
+	protocol := frames.Protocol(frame)
+	endpoint := frames.Source(frame)
+	peer := frames.Peer(frame)
+	external, err := x.table.Use(protocol, endpoint, peer, x.idle(protocol))
+	if err != api.OK {
+		return "", err
+	}
+	return frames.WithSource(frame, frames.End{Address: x.config.OutAddr, Port: external}), api.OK
 }
 
 // passes tells whether a frame may go on to a side with this MTU.

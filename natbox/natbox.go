@@ -39,8 +39,14 @@ func (x *Box) Frame(side int, frame string) api.Reply {
 	if err != api.OK {
 		return api.Reply{Err: err}
 	}
+	if frames.IsErrorMessage(frame) {
+		return x.message(side, frame)
+	}
 	if side == api.Outside {
 		return x.inward(frame)
+	}
+	if x.isForBox(frame) {
+		return x.back(frame)
 	}
 	return x.outward(frame)
 }

@@ -29,13 +29,25 @@ func made(t *testing.T, c api.Config) *natbox.Box {
 	return x
 }
 
+// comesOut: the frame comes out on a side as it must.
+func comesOut(t *testing.T, why string, x *natbox.Box, side int, f string, to int, want string) {
+	t.Helper()
+	r := x.Frame(side, f)
+	if r != (api.Reply{Err: api.OK, Side: to, Frame: want}) {
+		t.Fatalf("%s: Frame(%d, %x) = %d, %d, %x, want 0, %d, %x", why, side, f, r.Err, r.Side, r.Frame, to, want)
+	}
+}
+
 // carries: the frame comes out on the other side as it must.
 func carries(t *testing.T, why string, x *natbox.Box, side int, f, want string) {
 	t.Helper()
-	r := x.Frame(side, f)
-	if r != (api.Reply{Err: api.OK, Side: 1 - side, Frame: want}) {
-		t.Fatalf("%s: Frame(%d, %x) = %d, %d, %x, want 0, %d, %x", why, side, f, r.Err, r.Side, r.Frame, 1-side, want)
-	}
+	comesOut(t, why, x, side, f, 1-side, want)
+}
+
+// turnsBack: the frame comes from the inside, and comes out there as it must.
+func turnsBack(t *testing.T, why string, x *natbox.Box, f, want string) {
+	t.Helper()
+	comesOut(t, why, x, api.Inside, f, api.Inside, want)
 }
 
 // refuses: the answer is an error; nothing comes out, unless it is an error of which the box may tell, and then it takes a token.

@@ -238,24 +238,18 @@ func TestP12NothingAboutErrorMessages(t *testing.T) {
 	out := udpOf(boxOut, 40000, hostOut, 53, 63, strings.Repeat("x", 200))
 	in := udpOf(hostOut, 53, hostIn, 5000, 63, strings.Repeat("x", 200))
 	for _, kind := range []int{3, 11, 12} {
-		for _, ttl := range []int{0, 1, 64} {
-			for _, c := range []struct {
-				side, src, dst int
-				quote          string
-			}{
-				{api.Outside, otherOut, boxOut, out[:28]}, {api.Outside, otherOut, boxOut, out},
-				{api.Inside, hostIn, hostOut, in[:28]}, {api.Inside, hostIn, hostOut, in},
-				{api.Inside, hostIn, boxOut, in}, {api.Outside, otherOut, boxOut, in},
-			} {
-				if ttl == 64 && len(c.quote) == 28 {
-					continue
-				}
-				f := frame(c.src, c.dst, ttl, api.ICMP, "", icmpBody(kind, 0, "\x00\x00\x00\x00"+c.quote))
-				r := x.Frame(c.side, f)
-				if r.Err == api.OK || r.Frame != "" || r.Side != 0 {
-					t.Errorf("%x from side %d: %d, %d, %x", f, c.side, r.Err, r.Side, r.Frame)
-				}
-			}
+		for _, c := range []struct {
+			side, src, dst, ttl int
+			quote               string
+			want                api.Errno
+		}{
+			{api.Outside, otherOut, boxOut, 0, out[:28], api.ErrTTL}, {api.Outside, otherOut, boxOut, 1, out, api.ErrTTL}, {api.Outside, otherOut, boxOut, 2, out, api.ErrBig},
+			{api.Inside, hostIn, hostOut, 0, in[:28], api.ErrTTL}, {api.Inside, hostIn, hostOut, 1, in, api.ErrTTL}, {api.Inside, hostIn, hostOut, 2, in, api.ErrBig},
+			{api.Inside, hostIn, boxOut, 1, in, api.ErrNone}, {api.Outside, otherOut, boxOut, 1, in, api.ErrNone},
+		} {
+			f := frame(c.src, c.dst, c.ttl, api.ICMP, "", icmpBody(kind, 0, "\x00\x00\x00\x00"+c.quote))
+			keepsStill(t, "an error message", x, c.side, f, c.want)
+			keepsStill(t, "an error message that may be cut", x, c.side, cuttable(f), c.want)
 		}
 	}
 	hasTokens(t, "error messages", x, api.MaxBucket)
